@@ -7,6 +7,7 @@ import (
 
 	"analemma/api"
 	"analemma/divide"
+	"analemma/sample"
 	"analemma/wide"
 )
 
@@ -24,61 +25,17 @@ var (
 	less  = api.Wide{Hi: -1, Lo: full} // -1
 )
 
-// edges are wide numbers at which something turns: the ends of 64 bits and of 128, both halves full, 0, and what lies beside them, with both signs.
-func edges() []api.Wide {
-	var l []api.Wide
-	halves := []uint64{0, 1, 2, 3, 10, 1<<32 - 1, 1 << 32, 1 << 62, 1<<63 - 1, 1 << 63, 1<<63 + 1, full - 1, full}
-	for _, hi := range halves {
-		for _, lo := range halves {
-			l = append(l, api.Wide{Hi: int64(hi), Lo: lo})
-		}
-	}
-	return l
-}
-
-// bitsOf are bits by a fixed rule, so that each run tests the same.
-func bitsOf(n int) []uint64 {
-	l := make([]uint64, 0, n)
-	x := uint64(1)
-	for range n {
-		x = x*6364136223846793005 + 1442695040888963407
-		l = append(l, x^x>>29)
-	}
-	return l
-}
-
-// spread are wide numbers of all lengths and both signs.
-func spread(n int) []api.Wide {
-	l := make([]api.Wide, 0, n)
-	b := bitsOf(2 * n)
-	for i := range n {
-		w := new(big.Int).Lsh(big.NewInt(int64(b[2*i])), 64)
-		w.Add(w, new(big.Int).SetUint64(b[2*i+1]))
-		l = append(l, wideOf(w.Rsh(w, uint(i*5%128))))
-	}
-	return l
-}
-
-// small are the wide numbers from -n to n.
-func small(n int64) []api.Wide {
-	var l []api.Wide
-	for i := -n; i <= n; i++ {
-		l = append(l, wide.Of(i))
-	}
-	return l
-}
-
 // pairs goes through all pairs that calls are tried with.
 func pairs(do func(a, b api.Wide)) {
-	for _, l := range [][]api.Wide{edges(), spread(150), small(40)} {
+	for _, l := range [][]api.Wide{sample.Edges(), sample.Spread(150), sample.Small(40)} {
 		for _, a := range l {
 			for _, b := range l {
 				do(a, b)
 			}
 		}
 	}
-	for _, a := range spread(300) {
-		for _, b := range append(small(12), edges()[:40]...) {
+	for _, a := range sample.Spread(300) {
+		for _, b := range append(sample.Small(12), sample.Edges()[:40]...) {
 			do(a, b)
 			do(b, a)
 		}
@@ -157,12 +114,12 @@ func TestFloorAndTruncArePrecise(t *testing.T) {
 
 // P3.1, against numbers without bounds: numbers about the multiples of a divisor, where quotient and rest turn.
 func TestAboutMultiples(t *testing.T) {
-	divisors := append(edges(), spread(100)...)
+	divisors := append(sample.Edges(), sample.Spread(100)...)
 	for i, b := range divisors {
 		if b == none {
 			continue
 		}
-		for _, q := range append(small(3), divisors[(i*7)%150:][:20]...) {
+		for _, q := range append(sample.Small(3), divisors[(i*7)%150:][:20]...) {
 			for d := int64(-2); d <= 2; d++ {
 				n := new(big.Int).Mul(whole(b), whole(q))
 				n.Add(n, big.NewInt(d))
@@ -275,7 +232,7 @@ func TestQuotientsWrittenOut(t *testing.T) {
 // P3.1: no number is divided by 0, and one quotient alone has no room.
 func TestQuotientsRefused(t *testing.T) {
 	for _, do := range []func(a, b api.Wide) (api.Wide, api.Wide, api.Errno){divide.Floor, divide.Trunc} {
-		for _, a := range append(edges(), spread(100)...) {
+		for _, a := range append(sample.Edges(), sample.Spread(100)...) {
 			if x := of(do(a, none)); x != (answer{e: api.ErrZero}) {
 				t.Errorf("%v by 0: %v", a, x)
 			}
@@ -295,10 +252,10 @@ func TestQuotientsRefused(t *testing.T) {
 // P3.1, against numbers without bounds: numbers of 64 bits as divisors, and those that aren't above 0 refused.
 func TestByIsPreciseAndRefuses(t *testing.T) {
 	divisors := []int64{1, 2, 3, 7, 10, 24, 60, 86400, 1000000000, 86400000000000, 1<<32 - 1, 1 << 32, 1 << 62, greatest - 1, greatest, 0, -1, -2, -86400, -1 << 32, least, least + 1}
-	for _, b := range bitsOf(40) {
+	for _, b := range sample.Bits(40) {
 		divisors = append(divisors, int64(b)>>(b%64))
 	}
-	for _, a := range append(edges(), spread(300)...) {
+	for _, a := range append(sample.Edges(), sample.Spread(300)...) {
 		for _, n := range divisors {
 			q, r, e := divide.By(a, n)
 			if n <= 0 {
@@ -401,7 +358,7 @@ func TestGcdAndFractionByTheirMeaning(t *testing.T) {
 
 // P3.2: numbers of a known common divisor, of one half and of both, with all pairings of signs.
 func TestGcdOfMultiples(t *testing.T) {
-	for i, b := range bitsOf(600) {
+	for i, b := range sample.Bits(600) {
 		g := new(big.Int).SetUint64(b | 1<<63)
 		if i%2 == 0 {
 			g.Lsh(g, uint(b%50))
@@ -583,10 +540,10 @@ func TestProductAndRestMakeTheNumber(t *testing.T) {
 
 // P3.3 of By, by the layers' own calls.
 func TestByTimesMakesTheNumber(t *testing.T) {
-	for _, a := range spread(400) {
+	for _, a := range sample.Spread(400) {
 		// Numbers near the least one may have a product beyond it.
 		a.Hi >>= 1
-		for _, b := range bitsOf(30) {
+		for _, b := range sample.Bits(30) {
 			n := int64(b>>1>>(b%63)) + 1
 			q, r, e := divide.By(a, n)
 			p, f := wide.Times(q, n)

@@ -8,6 +8,7 @@ import (
 	"testing"
 
 	"analemma/api"
+	"analemma/sample"
 	"analemma/wide"
 )
 
@@ -22,73 +23,21 @@ var (
 	last  = api.Wide{Hi: greatest, Lo: full} // 2^127 - 1
 )
 
-// halves are bits of a half at which something turns: its ends, its middle, and small numbers of each sign.
-func halves() []uint64 {
-	return []uint64{
-		0, 1, 2, 9, 10, 1 << 31, 1<<32 - 1, 1 << 32, 1 << 62,
-		1<<63 - 1, 1 << 63, 1<<63 + 1, full - 9, full - 1, full,
-	}
-}
-
-// edges are the wide numbers of all pairs of such halves.
-func edges() []api.Wide {
-	var l []api.Wide
-	for _, hi := range halves() {
-		for _, lo := range halves() {
-			l = append(l, api.Wide{Hi: int64(hi), Lo: lo})
-		}
-	}
-	return l
-}
-
 // narrow are numbers of 64 bits at which something turns.
 func narrow() []int64 {
 	l := []int64{3, -3, 7, 60, -60, 1000000000, -1000000000, 86400000000000, -86400000000000, greatest / 10, least / 10}
-	for _, n := range halves() {
+	for _, n := range sample.Halves() {
 		l = append(l, int64(n))
 	}
 	return l
 }
 
-// bitsOf are bits by a fixed rule, so that each run tests the same.
-func bitsOf(n int) []uint64 {
-	l := make([]uint64, 0, n)
-	x := uint64(1)
-	for range n {
-		x = x*6364136223846793005 + 1442695040888963407
-		l = append(l, x^x>>29)
-	}
-	return l
-}
-
-// spread are wide numbers of all lengths and both signs.
-func spread(n int) []api.Wide {
-	l := make([]api.Wide, 0, n)
-	b := bitsOf(2 * n)
-	for i := range n {
-		w := api.Wide{Hi: int64(b[2*i]), Lo: b[2*i+1]}
-		if i%3 != 0 {
-			w = shifted(w, uint(i*5%128))
-		}
-		l = append(l, w)
-	}
-	return l
-}
-
-// shifted is a number without its last bits.
-func shifted(w api.Wide, by uint) api.Wide {
-	if by >= 64 {
-		return api.Wide{Hi: w.Hi >> 63, Lo: uint64(w.Hi >> (by - 64))}
-	}
-	return api.Wide{Hi: w.Hi >> by, Lo: w.Lo>>by | uint64(w.Hi)<<(64-by)}
-}
-
 // numbers are all numbers that calls of one wide number are tried with.
-func numbers() []api.Wide { return append(edges(), spread(2000)...) }
+func numbers() []api.Wide { return append(sample.Edges(), sample.Spread(2000)...) }
 
 // pairs goes through all pairs that calls of two wide numbers are tried with.
 func pairs(do func(a, b api.Wide)) {
-	for _, l := range [][]api.Wide{edges(), spread(200)} {
+	for _, l := range [][]api.Wide{sample.Edges(), sample.Spread(200)} {
 		for _, a := range l {
 			for _, b := range l {
 				do(a, b)
@@ -99,11 +48,11 @@ func pairs(do func(a, b api.Wide)) {
 
 // scales goes through all pairs that calls of a wide number and one of 64 bits are tried with.
 func scales(do func(w api.Wide, n int64)) {
-	for _, w := range append(edges(), spread(300)...) {
+	for _, w := range append(sample.Edges(), sample.Spread(300)...) {
 		for _, n := range narrow() {
 			do(w, n)
 		}
-		for i, b := range bitsOf(40) {
+		for i, b := range sample.Bits(40) {
 			do(w, int64(b)>>(i*7%64))
 		}
 	}
@@ -136,7 +85,7 @@ func same(t *testing.T, w api.Wide, e api.Errno, n *big.Int, name string, of ...
 // P2.1, against numbers without bounds.
 func TestOfAndIntAreEachOthersWayBack(t *testing.T) {
 	l := narrow()
-	for _, b := range bitsOf(1000) {
+	for _, b := range sample.Bits(1000) {
 		l = append(l, int64(b)>>(b%64))
 	}
 	for _, n := range l {
@@ -405,7 +354,7 @@ func TestProductsWrittenOut(t *testing.T) {
 
 // P2.2, against numbers without bounds: sums of none, of one, and of many.
 func TestSumsArePrecise(t *testing.T) {
-	for _, l := range [][]api.Wide{edges(), spread(700)} {
+	for _, l := range [][]api.Wide{sample.Edges(), sample.Spread(700)} {
 		for n := 0; n <= 12; n++ {
 			for at := 0; at+n <= len(l); at++ {
 				total(t, l[at:at+n])
@@ -478,7 +427,7 @@ func TestSumOfAGreatMany(t *testing.T) {
 
 // What is handed in is not changed, its spare room included.
 func TestSumLeavesItsListAlone(t *testing.T) {
-	l := spread(20)
+	l := sample.Spread(20)
 	kept := slices.Clone(l)
 	wide.Sum(l[:7]...)
 	if !slices.Equal(l, kept) {
@@ -663,7 +612,7 @@ func TestSumsDontHangOnTheirOrder(t *testing.T) {
 	for i := range len(some) * len(some) * len(some) * len(some) {
 		turns([]api.Wide{some[i%6], some[i/6%6], some[i/36%6], some[i/216]})
 	}
-	l := spread(400)
+	l := sample.Spread(400)
 	for at := 0; at+9 <= len(l); at += 3 {
 		turns(l[at : at+9])
 	}

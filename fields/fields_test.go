@@ -24,21 +24,6 @@ func texts(l []api.Word) []string {
 	return out
 }
 
-// every goes through all texts of at most so many bytes that are made of some.
-func every(of string, most int, do func(text string)) {
-	var grow func(text []byte)
-	grow = func(text []byte) {
-		do(string(text))
-		if len(text) == most {
-			return
-		}
-		for i := range len(of) {
-			grow(append(text, of[i]))
-		}
-	}
-	grow(make([]byte, 0, most))
-}
-
 // shared tells whether two texts stand in the same memory.
 func shared(a, b string) bool {
 	if a == "" || b == "" {
@@ -106,7 +91,7 @@ func TestLinesWrittenOut(t *testing.T) {
 
 // P8.1: all short texts, and each byte.
 func TestLines(t *testing.T) {
-	every("\na \r", 7, func(text string) { lined(t, text) })
+	sample.Every("\na \r", 7, func(text string) { lined(t, text) })
 	for b := range 256 {
 		c := string([]byte{byte(b)})
 		for _, text := range []string{c, c + c, "a" + c, c + "a", "a" + c + "b", "a\n" + c, c + "\na", "\n" + c + "\n", "\xc3" + c} {
@@ -322,8 +307,8 @@ func TestSplitRefusesWrittenOut(t *testing.T) {
 
 // P8.2: all short lines of bytes of all kinds.
 func TestSplit(t *testing.T) {
-	every(" \t\"#a\x01", 7, func(line string) { cut(t, line) })
-	every("\"#! \xff~", 6, func(line string) { cut(t, line) })
+	sample.Every(" \t\"#a\x01", 7, func(line string) { cut(t, line) })
+	sample.Every("\"#! \xff~", 6, func(line string) { cut(t, line) })
 }
 
 // P8.2: each byte at each place where one may stand.
@@ -416,7 +401,7 @@ func TestSplitMany(t *testing.T) {
 		for _, field := range []string{"a", "\"\"", "\"b c\"", "\"#\""} {
 			line := strings.TrimSpace(strings.Repeat(field+" ", n))
 			cut(t, line)
-			every(" \"#a\x01", 5, func(tail string) { cut(t, line+tail) })
+			sample.Every(" \"#a\x01", 5, func(tail string) { cut(t, line+tail) })
 		}
 	}
 	cut(t, strings.Repeat("a ", 250))
@@ -519,7 +504,7 @@ func TestJoin(t *testing.T) {
 		joined(t, "", "a"+c)
 	}
 	var l []string
-	every(" #a~\"\x01", 3, func(text string) {
+	sample.Every(" #a~\"\x01", 3, func(text string) {
 		joined(t, text)
 		joined(t, text, "b", text)
 		l = append(l, text)
@@ -600,7 +585,7 @@ func TestJoinManyWrittenOut(t *testing.T) {
 
 // P8.4: what was split, joined, is split into the same texts.
 func TestSplitJoinedSplit(t *testing.T) {
-	every(" \t\"#a", 6, func(line string) {
+	sample.Every(" \t\"#a", 6, func(line string) {
 		l, _, e := fields.Split(line)
 		if e != api.OK {
 			return

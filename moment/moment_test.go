@@ -65,37 +65,6 @@ var (
 	weekdaysByName = namesOf(weekdayNames)
 )
 
-// every goes through all texts of at most so many bytes that are made of some.
-func every(of string, most int, do func(text string)) {
-	var grow func(text []byte)
-	grow = func(text []byte) {
-		do(string(text))
-		if len(text) == most {
-			return
-		}
-		for i := range len(of) {
-			grow(append(text, of[i]))
-		}
-	}
-	grow(make([]byte, 0, most))
-}
-
-// spoiled goes through a text with each byte at each place, in the place of one and ahead of it, and without each byte.
-func spoiled(text string, do func(text string)) {
-	for i := range len(text) + 1 {
-		for c := range 256 {
-			b := string([]byte{byte(c)})
-			do(text[:i] + b + text[i:])
-			if i < len(text) {
-				do(text[:i] + b + text[i+1:])
-			}
-		}
-		if i < len(text) {
-			do(text[:i] + text[i+1:])
-		}
-	}
-}
-
 // named tries Month and Weekday with a text.
 func named(t *testing.T, s string) {
 	t.Helper()
@@ -133,7 +102,7 @@ func TestNamesWithAWrongByte(t *testing.T) {
 	for _, name := range slices.Concat(monthNames, weekdayNames) {
 		for n := 3; n <= len(name); n++ {
 			for _, text := range []string{name[:n], strings.ToLower(name[:n]), strings.ToUpper(name[:n])} {
-				spoiled(text, func(s string) { named(t, s) })
+				sample.Spoiled(text, func(s string) { named(t, s) })
 			}
 		}
 	}
@@ -226,10 +195,10 @@ func timed(t *testing.T, s string) {
 
 // P9.1: all short texts of the bytes that clock's times are made of.
 func TestShortClocks(t *testing.T) {
-	every("-:0169sw", 6, func(s string) { timed(t, s) })
-	every("0258:zgu", 5, func(s string) { timed(t, s) })
-	every("-5:", 9, func(s string) { timed(t, s) })
-	every("01:", 9, func(s string) { timed(t, s) })
+	sample.Every("-:0169sw", 6, func(s string) { timed(t, s) })
+	sample.Every("0258:zgu", 5, func(s string) { timed(t, s) })
+	sample.Every("-5:", 9, func(s string) { timed(t, s) })
+	sample.Every("01:", 9, func(s string) { timed(t, s) })
 }
 
 // rows are all rows of digits of numbers up to one, by at most so many digits.
@@ -272,7 +241,7 @@ func TestClocks(t *testing.T) {
 // P9.1: each byte at each place of a clock's time.
 func TestClocksEachByte(t *testing.T) {
 	for _, s := range []string{"", "-", "2", "12", "167", "2:00", "02:30", "-2:00s", "2:00:05", "-167:59:59", "23:59:59u", "-0:00:01w", "24", "0"} {
-		spoiled(s, func(s string) { timed(t, s) })
+		sample.Spoiled(s, func(s string) { timed(t, s) })
 	}
 }
 
@@ -451,9 +420,9 @@ func TestParseDays(t *testing.T) {
 // P9.2: each byte at each place of a day.
 func TestParseDaysEachByte(t *testing.T) {
 	for _, s := range []string{"1", "31", "05", "lastSun", "lastsunday", "Sun>=8", "MON<=25", "Tuesday>=01", "thu<=31", "Sun>=", "last", ""} {
-		spoiled(s, func(s string) { reads(t, "Oct", s) })
+		sample.Spoiled(s, func(s string) { reads(t, "Oct", s) })
 	}
-	every("Sunlat<>=18", 4, func(s string) { reads(t, "Oct", s) })
+	sample.Every("Sunlat<>=18", 4, func(s string) { reads(t, "Oct", s) })
 }
 
 // P9.2: none to five texts, right ones and wrong ones at each place.

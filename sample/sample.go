@@ -1,4 +1,4 @@
-// Package sample has the numbers with which the layers' tests try their calls. No layer calls it.
+// Package sample has the numbers and texts with which the layers' tests try their calls. No layer calls it.
 package sample
 
 import "analemma/api"
@@ -55,6 +55,37 @@ func Small(n int64) []api.Wide {
 		l = append(l, api.Wide{Hi: i >> 63, Lo: uint64(i)})
 	}
 	return l
+}
+
+// Every goes through all texts of at most so many bytes that are made of some.
+func Every(of string, most int, do func(text string)) {
+	var grow func(text []byte)
+	grow = func(text []byte) {
+		do(string(text))
+		if len(text) == most {
+			return
+		}
+		for i := range len(of) {
+			grow(append(text, of[i]))
+		}
+	}
+	grow(make([]byte, 0, most))
+}
+
+// Spoiled goes through a text with each byte at each place, in the place of one and ahead of it, and without each byte.
+func Spoiled(text string, do func(text string)) {
+	for i := range len(text) + 1 {
+		for c := range 256 {
+			b := string([]byte{byte(c)})
+			do(text[:i] + b + text[i:])
+			if i < len(text) {
+				do(text[:i] + b + text[i+1:])
+			}
+		}
+		if i < len(text) {
+			do(text[:i] + text[i+1:])
+		}
+	}
 }
 
 // shifted is a number without its last bits.

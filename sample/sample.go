@@ -88,6 +88,11 @@ func Spoiled(text string, do func(text string)) {
 	}
 }
 
+// SpotFields are a spot's fields, for changing each alone.
+func SpotFields(s *api.Spot) []*int {
+	return []*int{&s.Month, &s.Kind, &s.Weekday, &s.Day, &s.Time, &s.Ref}
+}
+
 // shifted is a number without its last bits.
 func shifted(w api.Wide, by int) api.Wide {
 	if by >= 64 {

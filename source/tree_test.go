@@ -73,17 +73,12 @@ func TestRulesEachField(t *testing.T) {
 			with(func(x *api.Rule) { x.From, x.To = n, n })
 			with(func(x *api.Rule) { x.Save = n })
 			for k := range 6 {
-				with(func(x *api.Rule) { *spotNumbers(&x.Spot)[k] = n })
+				with(func(x *api.Rule) { *sample.SpotFields(&x.Spot)[k] = n })
 			}
 		}
 		with(func(x *api.Rule) { x.Spot = api.Spot{} })
 		with(func(x *api.Rule) { *x = api.Rule{} })
 	}
-}
-
-// spotNumbers are a spot's fields.
-func spotNumbers(s *api.Spot) []*int {
-	return []*int{&s.Month, &s.Kind, &s.Weekday, &s.Day, &s.Time, &s.Ref}
 }
 
 // P10.2, P10.3: trees that differ from one that may be in one field of an era alone.
@@ -108,7 +103,7 @@ func TestErasEachField(t *testing.T) {
 				with(func(x *api.Era) { x.Year = n })
 				with(func(x *api.Era) { x.Kind, x.Save, x.Rules = api.SaveFixed, n, "" })
 				for k := range 6 {
-					with(func(x *api.Era) { *spotNumbers(&x.Spot)[k] = n })
+					with(func(x *api.Era) { *sample.SpotFields(&x.Spot)[k] = n })
 				}
 			}
 			with(func(x *api.Era) { x.Until = !x.Until })

@@ -8,6 +8,7 @@ import (
 
 	"analemma/api"
 	"analemma/rules"
+	"analemma/sample"
 )
 
 // forced is what Force answers.
@@ -24,21 +25,21 @@ func force(l []api.Rule, offset int, t int64) forced {
 
 // P11.1 to P11.3: sets by a fixed rule, of none, one and many rules; many are near, with turns of like times, and some are crowded.
 func TestSetsByARule(t *testing.T) {
-	d := rolled(1 << 17)
+	d := sample.Rolled(1 << 17)
 	for range 150 {
-		tries(t, d.set(6))
+		tries(t, d.Set(6))
 	}
 	for range 15 {
-		tries(t, d.set(25))
+		tries(t, d.Set(25))
 	}
 }
 
 // P11.1 to P11.3: a crowded set of as many rules as a source may have, each named.
 func TestAsManyRulesAsMayBe(t *testing.T) {
-	d := rolled(1 << 12)
+	d := sample.Rolled(1 << 12)
 	var l []api.Rule
 	for range api.MaxRules {
-		l = append(l, d.rule())
+		l = append(l, d.Rule())
 	}
 	w := worldOf(l)
 	triesTurns(t, w)
@@ -388,9 +389,9 @@ func TestForceOffsets(t *testing.T) {
 
 // P11.4: between one universal time and the next one nothing changes.
 func TestForceChangesAtUniversalTimes(t *testing.T) {
-	d := rolled(1 << 15)
+	d := sample.Rolled(1 << 15)
 	for range 60 {
-		l := d.set(9)
+		l := d.Set(9)
 		w := worldOf(l)
 		for _, offset := range offsets {
 			stops := []int64{math.MinInt64}
@@ -414,10 +415,10 @@ func TestForceChangesAtUniversalTimes(t *testing.T) {
 
 // P11.5: where no two turns are near, each is in force from its universal time till the next one's.
 func TestForceOfTurnsThatAreNotNear(t *testing.T) {
-	d := rolled(1 << 16)
+	d := sample.Rolled(1 << 16)
 	tried := 0
 	for range 250 {
-		l := d.set(4)
+		l := d.Set(4)
 		if rules.Crowded(l) || rules.Near(l) {
 			continue
 		}

@@ -10,7 +10,6 @@ import (
 	"analemma/api"
 	"analemma/moment"
 	"analemma/rules"
-	"analemma/sample"
 )
 
 const (
@@ -331,62 +330,4 @@ func refused(t *testing.T, l []api.Rule) {
 			}
 		}
 	}
-}
-
-// dice are numbers by a fixed rule.
-type dice struct {
-	bits []uint64
-	next int
-}
-
-// to is a number from 0 to one below n.
-func (d *dice) to(n int) int {
-	x := d.bits[d.next%len(d.bits)]
-	d.next++
-	return int(x >> 20 % uint64(n))
-}
-
-// pick is one of some items.
-func pick[T any](d *dice, l ...T) T { return l[d.to(len(l))] }
-
-// rolled are dice for so many numbers.
-func rolled(n int) *dice { return &dice{bits: sample.Bits(n)} }
-
-// spot is a spot of few months and days, so that many spots meet, those about the year's end among them.
-func (d *dice) spot() api.Spot {
-	s := api.Spot{
-		Month: pick(d, 1, 1, 2, 3, 6, 10, 12, 12),
-		Kind:  d.to(4),
-		Time:  pick(d, 0, 0, 2*hour, 2*hour, 3*hour, wholeDay, -wholeDay, 604799, -604799, 5*hour+123),
-		Ref:   d.to(3),
-	}
-	if s.Kind != api.OnDay {
-		s.Weekday = pick(d, 1, 4, 6, 7, 7)
-	}
-	if s.Kind != api.OnLast {
-		s.Day = pick(d, 1, 1, 2, 3, 8, 15, 29, 30, 31, 31)
-	}
-	return s
-}
-
-// rule is a right rule of years that are near one another.
-func (d *dice) rule() api.Rule {
-	from := 1995 + d.to(6)
-	to := pick(d, from, from, from+1, from+2, from+4, from-1, ever)
-	return rule(from, to, d.spot(), pick(d, 0, 0, 0, hour, hour, -hour, 2*hour, hour/2, 43200, -43200), pick(d, "", "S", "D", "M", "+01", "x"))
-}
-
-// set is a right set of at most so many rules, of which some turn at about the time of one ahead of them, or just then.
-func (d *dice) set(most int) []api.Rule {
-	var l []api.Rule
-	for range d.to(most + 1) {
-		r := d.rule()
-		if len(l) > 0 && d.to(3) == 0 {
-			r.Spot = l[d.to(len(l))].Spot
-			r.Spot.Ref = d.to(3)
-			r.Spot.Time = pick(d, r.Spot.Time, r.Spot.Time, r.Spot.Time/2, 0, hour, 12*hour, wholeDay, apart)
-		}
-		l = append(l, r)
-	}
-	return l
 }

@@ -184,10 +184,10 @@ func TestCrowdedStairs(t *testing.T) {
 
 // P11.1: sets by a fixed rule, of which some are crowded.
 func TestCrowdedByARule(t *testing.T) {
-	d := rolled(1 << 16)
+	d := sample.Rolled(1 << 16)
 	seen := map[bool]int{}
 	for range 300 {
-		l := d.set(30)
+		l := d.Set(30)
 		got := rules.Crowded(l)
 		if got != crowded(l) {
 			t.Fatalf("Crowded(%v): %v", l, got)
@@ -324,10 +324,10 @@ func betweens(a, b api.Spot) []int64 {
 
 // P11.1: pairs of spots of which one's time is moved till the nearest turns of all years lie just Apart from one another, a second less and a second more.
 func TestNearJustApart(t *testing.T) {
-	d := rolled(1 << 16)
+	d := sample.Rolled(1 << 16)
 	tried, across := 0, 0
 	for range 1500 {
-		a, b := d.spot(), d.spot()
+		a, b := d.Spot(), d.Spot()
 		l := betweens(a, b)
 		if len(l) == 0 {
 			continue
@@ -335,14 +335,14 @@ func TestNearJustApart(t *testing.T) {
 		for _, between := range []int64{apart - 1, apart, apart + 1, apart + 7*wholeDay} {
 			moved := b
 			moved.Time += int(between - slices.Min(l))
-			if d.to(2) == 0 {
+			if d.To(2) == 0 {
 				moved.Time = b.Time - int(between+slices.Max(l))
 			}
 			if !moment.Right(moved) {
 				continue
 			}
-			from := 1 + d.to(9999)
-			set := []api.Rule{rule(from, ever, a, 0, ""), rule(1, pick(d, 9999, ever), moved, 0, "")}
+			from := 1 + d.To(9999)
+			set := []api.Rule{rule(from, ever, a, 0, ""), rule(1, sample.Pick(d, 9999, ever), moved, 0, "")}
 			if from > 9599 {
 				set[1].To = ever
 			}
@@ -362,11 +362,11 @@ func TestNearJustApart(t *testing.T) {
 }
 
 // nearYears tries Near with two spots, each in few years of its own.
-func nearYears(t *testing.T, d *dice, a, b api.Spot) {
+func nearYears(t *testing.T, d *sample.Dice, a, b api.Spot) {
 	t.Helper()
 	for range 6 {
-		from, until := 1990+d.to(3), 1990+d.to(3)
-		l := []api.Rule{rule(from, from+d.to(12), a, 0, ""), rule(until, until+d.to(3), b, 0, "")}
+		from, until := 1990+d.To(3), 1990+d.To(3)
+		l := []api.Rule{rule(from, from+d.To(12), a, 0, ""), rule(until, until+d.To(3), b, 0, "")}
 		if got := rules.Near(l); got != near(l) {
 			t.Fatalf("Near(%v): %v", l, got)
 		}
@@ -375,10 +375,10 @@ func nearYears(t *testing.T, d *dice, a, b api.Spot) {
 
 // P11.1: sets by a fixed rule, of many rules: near or not.
 func TestNearByARule(t *testing.T) {
-	d := rolled(1 << 16)
+	d := sample.Rolled(1 << 16)
 	seen := map[bool]int{}
 	for range 300 {
-		l := d.set(5)
+		l := d.Set(5)
 		got := rules.Near(l)
 		if got != near(l) {
 			t.Fatalf("Near(%v): %v", l, got)

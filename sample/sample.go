@@ -1,4 +1,4 @@
-// Package sample has the numbers and texts with which the layers' tests try their calls. No layer calls it.
+// Package sample has the numbers, texts and sets of rules with which the layers' tests try their calls. No layer calls it.
 package sample
 
 import "analemma/api"

@@ -354,27 +354,18 @@ func TestPrintLong(t *testing.T) {
 	prints(t, s)
 }
 
-// dice are numbers by a fixed rule.
-type dice struct {
-	bits []uint64
-	at   int
-}
+// dice are numbers by a fixed rule, and what is made of them.
+type dice struct{ *sample.Dice }
 
-// pick is one of so many numbers from 0 on.
-func (d *dice) pick(n int) int {
-	d.at = (d.at + 1) % len(d.bits)
-	return int(d.bits[d.at] >> 11 % uint64(n))
-}
+// rolled are dice that come again behind so many numbers.
+func rolled(n int) *dice { return &dice{sample.Rolled(n)} }
 
 // one is one of some texts.
-func (d *dice) one(l ...string) string { return l[d.pick(len(l))] }
-
-// from is a number from one to another.
-func (d *dice) from(least, greatest int) int { return least + d.pick(greatest-least+1) }
+func (d *dice) one(l ...string) string { return sample.Pick(d.Dice, l...) }
 
 // anySpot is a right spot.
 func (d *dice) anySpot() api.Spot {
-	s := api.Spot{Month: d.from(1, 12), Kind: d.pick(4), Weekday: d.from(1, 7), Day: d.from(1, 31), Time: d.from(-604799, 604799), Ref: d.pick(3)}
+	s := api.Spot{Month: d.From(1, 12), Kind: d.To(4), Weekday: d.From(1, 7), Day: d.From(1, 31), Time: d.From(-604799, 604799), Ref: d.To(3)}
 	switch s.Kind {
 	case api.OnDay:
 		s.Weekday = 0
@@ -386,15 +377,15 @@ func (d *dice) anySpot() api.Spot {
 
 // anyEra is a right era, with or without an end.
 func (d *dice) anyEra(until bool) api.Era {
-	x := api.Era{Offset: d.from(-86399, 86399), Kind: d.pick(3), Format: d.one("X", "E%sT", "%z", "A/B", "-00", "+%s", strings.Repeat("a", 20))}
+	x := api.Era{Offset: d.From(-86399, 86399), Kind: d.To(3), Format: d.one("X", "E%sT", "%z", "A/B", "-00", "+%s", strings.Repeat("a", 20))}
 	switch x.Kind {
 	case api.SaveFixed:
-		x.Save = d.from(-43200, 43200)
+		x.Save = d.From(-43200, 43200)
 	case api.SaveRules:
 		x.Rules = d.one("US", "_", "a-", "Zone", strings.Repeat("b", 20))
 	}
 	if until {
-		x.Until, x.Year, x.Spot = true, d.from(1, 9999), d.anySpot()
+		x.Until, x.Year, x.Spot = true, d.From(1, 9999), d.anySpot()
 	}
 	return x
 }
@@ -402,9 +393,9 @@ func (d *dice) anyEra(until bool) api.Era {
 // anyTree is a right tree.
 func (d *dice) anyTree() api.Source {
 	var s api.Source
-	for range d.pick(6) {
-		x := api.Rule{Name: d.one("US", "_", "a-", "Rule"), From: d.from(1, 9999), To: d.from(1, 9999), Spot: d.anySpot(), Save: d.from(-43200, 43200), Letter: d.one("", "S", "--", "+", "abcdefgh")}
-		switch d.pick(4) {
+	for range d.To(6) {
+		x := api.Rule{Name: d.one("US", "_", "a-", "Rule"), From: d.From(1, 9999), To: d.From(1, 9999), Spot: d.anySpot(), Save: d.From(-43200, 43200), Letter: d.one("", "S", "--", "+", "abcdefgh")}
+		switch d.To(4) {
 		case 0:
 			x.To = api.Ever
 		case 1:
@@ -412,15 +403,15 @@ func (d *dice) anyTree() api.Source {
 		}
 		s.Rules = append(s.Rules, x)
 	}
-	for range d.pick(5) {
+	for range d.To(5) {
 		z := api.Zone{Name: d.one("A", "a/b/c", "-", "Zone", "9")}
-		for range d.pick(4) {
+		for range d.To(4) {
 			z.Eras = append(z.Eras, d.anyEra(true))
 		}
 		z.Eras = append(z.Eras, d.anyEra(false))
 		s.Zones = append(s.Zones, z)
 	}
-	for range d.pick(4) {
+	for range d.To(4) {
 		s.Links = append(s.Links, api.Link{Target: d.one("A", "a/b/c", "_"), Name: d.one("Link", "+", "x/y")})
 	}
 	return s
@@ -428,7 +419,7 @@ func (d *dice) anyTree() api.Source {
 
 // P10.3: trees by a fixed rule are written, and read as they were.
 func TestWrittenIsReadAsItWas(t *testing.T) {
-	d := &dice{bits: sample.Bits(200000)}
+	d := rolled(200000)
 	for range 4000 {
 		s := d.anyTree()
 		if !source.Right(s) {
@@ -441,23 +432,23 @@ func TestWrittenIsReadAsItWas(t *testing.T) {
 // anyLine are the fields of a line: mostly right ones.
 func (d *dice) anyLine() []string {
 	var l []string
-	switch d.pick(9) {
+	switch d.To(9) {
 	case 0, 1, 2:
 		l = []string{"Rule", d.one("US", "_a"), d.one("1967", "0001"), d.one("only", "max", "2006"), "-", d.one("Oct", "march"), d.one("lastSun", "8", "Fri<=3"), d.one("2:00", "0s", "-"), d.one("0", "1:00", "-"), d.one("S", "-")}
 	case 3, 4:
 		l = []string{"Zone", d.one("A", "a/b"), d.one("1:00", "-0"), d.one("-", "US", "1:00"), d.one("X", "E%sT", "A/B"), "1990", "Oct", "lastSun", "0"}
-		l = l[:5+d.pick(2)*d.from(1, 4)]
+		l = l[:5+d.To(2)*d.From(1, 4)]
 	case 5, 6, 7:
 		l = []string{d.one("1:00", "-5"), d.one("-", "US", "1:00"), d.one("X", "%z"), "1991", "Mar", "Sun>=8", "2u"}
-		l = l[:3+d.pick(2)*d.from(1, 4)]
+		l = l[:3+d.To(2)*d.From(1, 4)]
 	case 8:
 		l = []string{"Link", d.one("A", "a/b"), d.one("B", "-")}
 	}
-	switch d.pick(30) {
+	switch d.To(30) {
 	case 0:
-		l[d.pick(len(l))] = d.one("?", "", "24:00", "13:00", "a b", "#", "Rule", "0", "a/")
+		l[d.To(len(l))] = d.one("?", "", "24:00", "13:00", "a b", "#", "Rule", "0", "a/")
 	case 1:
-		l = l[:d.pick(len(l))]
+		l = l[:d.To(len(l))]
 	case 2:
 		l = append(l, d.one("x", "", "0"), d.one("y", "1"))
 	}
@@ -468,7 +459,7 @@ func (d *dice) anyLine() []string {
 func (d *dice) anyLines() [][]string {
 	var l [][]string
 	open := false
-	for range d.pick(9) {
+	for range d.To(9) {
 		line := d.anyLine()
 		for range 20 {
 			further := len(line) > 0 && !slices.Contains([]string{"Rule", "Zone", "Link"}, line[0])
@@ -541,7 +532,7 @@ func moved(f api.Fault, a, b page) api.Fault {
 
 // P10.4: lines without fields, remarks and further blanks turn nothing but places.
 func TestBlanksAndRemarksTurnNothing(t *testing.T) {
-	d := &dice{bits: sample.Bits(200003)}
+	d := rolled(200003)
 	none := func() string { return "" }
 	gap := func() string { return d.one("", " ", "\t", "  \t ", "     ") }
 	tail := func() string { return d.one("", " ", "\t ", " # x", "#", "\t#Rule A \x01\"") }
@@ -567,7 +558,7 @@ func TestBlanksAndRemarksTurnNothing(t *testing.T) {
 
 // P10.5: what is wrong is told by what stands up to its line.
 func TestWhatStandsBehindTurnsNothing(t *testing.T) {
-	d := &dice{bits: sample.Bits(200005)}
+	d := rolled(200005)
 	none := func() string { return "" }
 	behind := []string{"", "\n", "\n\n", "\n?", "\nRule", "\n\x01", "\n" + strings.Repeat("x", 600), "\n0 - X", "\nZone A 0 - X\n", "\n" + times(300, "Link A B"), "\nLink A B\nZone A 24 - X 1990"}
 	for range 3000 {
@@ -591,19 +582,19 @@ func TestWhatStandsBehindTurnsNothing(t *testing.T) {
 
 // P10.1: texts of any bytes.
 func TestAnyBytes(t *testing.T) {
-	d := &dice{bits: sample.Bits(200007)}
+	d := rolled(200007)
 	pieces := []string{"Rule", "Zone", "Link", " ", " ", " ", "\n", "\n", "\t", "\"", "#", "A", "US", "1990", "only", "max", "-", "Oct", "lastSun", "2:00", "1:00", "0", "E%sT", "%z", "X", "24:00", "\x00", "\xff", "\r"}
 	for range 40000 {
 		var text strings.Builder
-		for range d.pick(40) {
-			text.WriteString(pieces[d.pick(len(pieces))])
+		for range d.To(40) {
+			text.WriteString(pieces[d.To(len(pieces))])
 		}
 		reads(t, text.String())
 	}
 	for range 20000 {
 		b := []byte("Rule US 1967 2006 - Oct lastSun 2:00 1:00 S\nZone A 1:00 - X 1980\n2:00 US E%sT\nLink A B\n")
-		for range 1 + d.pick(3) {
-			b[d.pick(len(b))] = byte(d.pick(256))
+		for range 1 + d.To(3) {
+			b[d.To(len(b))] = byte(d.To(256))
 		}
 		reads(t, string(b))
 	}

@@ -404,7 +404,7 @@ func TestMemory(t *testing.T) {
 	for z := range s.Zones {
 		ask(s, z, ends)
 	}
-	if !same(s, parsed(ruled)) || s.Rules[:n+1][n].Letter != "spare" || s.Zones[:4][3].Name != "spare" || s.Zones[1].Eras[:3][2].Format != "spare" {
+	if !sample.Same(s, parsed(ruled)) || s.Rules[:n+1][n].Letter != "spare" || s.Zones[:4][3].Name != "spare" || s.Zones[1].Eras[:3][2].Format != "spare" {
 		t.Error(s)
 	}
 	again, want := eras.Set(s, "E"), setOf(s, "E")
@@ -412,7 +412,7 @@ func TestMemory(t *testing.T) {
 		t.Error("a set's texts stand in the source's memory")
 	}
 	clear(set[:cap(set)])
-	if !same(s, parsed(ruled)) || !slices.Equal(again, want) {
+	if !sample.Same(s, parsed(ruled)) || !slices.Equal(again, want) {
 		t.Error(s, again)
 	}
 	clear(s.Rules)

@@ -98,12 +98,6 @@ func saved(offset, kind, save int, format string) api.Era {
 	return x
 }
 
-// same tells whether two trees have the same fields; no list and an empty one are one.
-func same(a, b api.Source) bool {
-	return slices.Equal(a.Rules, b.Rules) && slices.Equal(a.Links, b.Links) &&
-		slices.EqualFunc(a.Zones, b.Zones, func(x, y api.Zone) bool { return x.Name == y.Name && slices.Equal(x.Eras, y.Eras) })
-}
-
 // copied is a tree in new memory.
 func copied(s api.Source) api.Source {
 	s.Rules, s.Zones, s.Links = slices.Clone(s.Rules), slices.Clone(s.Zones), slices.Clone(s.Links)

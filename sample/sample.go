@@ -1,4 +1,4 @@
-// Package sample has the numbers, texts and sets of rules with which the layers' tests try their calls. No layer calls it.
+// Package sample has what the layers' tests share: numbers, texts and sets of rules with which they try their calls, and how trees are held against each other. No layer calls it.
 package sample
 
 import "analemma/api"

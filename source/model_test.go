@@ -3,7 +3,6 @@ package source_test
 import (
 	"fmt"
 	"regexp"
-	"slices"
 	"strconv"
 	"strings"
 	"testing"
@@ -11,6 +10,7 @@ import (
 	"analemma/api"
 	"analemma/fields"
 	"analemma/moment"
+	"analemma/sample"
 	"analemma/source"
 )
 
@@ -270,13 +270,7 @@ func paper(s api.Source) string {
 // right tells whether a tree is that of some text: then it is that of the text as which it is written.
 func right(s api.Source) bool {
 	read, f := modelOf(paper(s))
-	return f == fine && same(read, s)
-}
-
-// same tells whether two trees have the same fields; no list and an empty one are one.
-func same(a, b api.Source) bool {
-	return slices.Equal(a.Rules, b.Rules) && slices.Equal(a.Links, b.Links) &&
-		slices.EqualFunc(a.Zones, b.Zones, func(x, y api.Zone) bool { return x.Name == y.Name && slices.Equal(x.Eras, y.Eras) })
+	return f == fine && sample.Same(read, s)
 }
 
 // cut is a text's beginning, for telling of it.
@@ -292,7 +286,7 @@ func reads(t *testing.T, text string) bool {
 	t.Helper()
 	want, wrong := model(text)
 	s, f := source.Parse(text)
-	if f != wrong || !same(s, want) {
+	if f != wrong || !sample.Same(s, want) {
 		t.Fatalf("Parse(%q): %v, %v; must be %v, %v", cut(text), s, f, want, wrong)
 	}
 	if f == fine {
@@ -331,7 +325,7 @@ func prints(t *testing.T, s api.Source) {
 	if e != api.OK {
 		return
 	}
-	if again, f := source.Parse(text); f != fine || !same(again, s) {
+	if again, f := source.Parse(text); f != fine || !sample.Same(again, s) {
 		t.Fatalf("Parse(%q): %v, %v; must be %v", cut(text), again, f, s)
 	}
 }

@@ -263,13 +263,13 @@ func TestParseWrittenOut(t *testing.T) {
 		Links: []api.Link{{Target: "A/b", Name: "New"}, {Target: "+_-/0", Name: "A"}},
 	}
 	for _, text := range []string{text, text + "\n", text + "\n\n", text + " # end\n#"} {
-		if s, f := source.Parse(text); f != fine || !same(s, want) {
+		if s, f := source.Parse(text); f != fine || !sample.Same(s, want) {
 			t.Fatalf("%v, %v", s, f)
 		}
 		reads(t, text)
 	}
 	for _, text := range []string{"", "\n", "\n\n\n", " ", "#", "# Rule", "\t\n #\n"} {
-		if s, f := source.Parse(text); f != fine || !same(s, api.Source{}) {
+		if s, f := source.Parse(text); f != fine || !sample.Same(s, api.Source{}) {
 			t.Fatalf("Parse(%q): %v, %v", text, s, f)
 		}
 		reads(t, text)
@@ -657,7 +657,7 @@ func TestNamesWrittenOut(t *testing.T) {
 func TestExamples(t *testing.T) {
 	s, f := source.Parse("Rule US 1967 2006 - Oct lastSun 2:00 0 S")
 	want := api.Rule{Name: "US", From: 1967, To: 2006, Spot: api.Spot{Month: 10, Kind: api.OnLast, Weekday: 7, Time: 7200}, Letter: "S"}
-	if f != fine || !same(s, api.Source{Rules: []api.Rule{want}}) {
+	if f != fine || !sample.Same(s, api.Source{Rules: []api.Rule{want}}) {
 		t.Error(s, f)
 	}
 	refused(t, "Zone A 1:00 US C%sT 1990", fault(api.ErrFew, 2, 0))

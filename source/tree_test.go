@@ -254,7 +254,7 @@ func TestPrintWrittenOut(t *testing.T) {
 	if text, e := source.Print(tree()); text != want || e != api.OK {
 		t.Errorf("%q, %d", text, e)
 	}
-	if s, f := source.Parse(want); f != fine || !same(s, tree()) {
+	if s, f := source.Parse(want); f != fine || !sample.Same(s, tree()) {
 		t.Error(s, f)
 	}
 	if text, e := source.Print(api.Source{}); text != "" || e != api.OK {
@@ -543,7 +543,7 @@ func TestBlanksAndRemarksTurnNothing(t *testing.T) {
 		a, b := put(l, none, none, none), put(l, gap, tail, further)
 		s, f := source.Parse(a.text)
 		r, g := source.Parse(b.text)
-		if !same(s, r) || g != moved(f, a, b) {
+		if !sample.Same(s, r) || g != moved(f, a, b) {
 			t.Fatalf("Parse(%q): %v, %v; Parse(%q): %v, %v", a.text, s, f, b.text, r, g)
 		}
 		reads(t, a.text)
@@ -629,7 +629,7 @@ func TestMemory(t *testing.T) {
 			t.Error("eras of two zones share memory")
 		}
 	}
-	if want, _ := model(text); !same(r, want) {
+	if want, _ := model(text); !sample.Same(r, want) {
 		t.Error(r)
 	}
 	x := tree()
@@ -637,7 +637,7 @@ func TestMemory(t *testing.T) {
 	x.Zones[0].Eras = append(x.Zones[0].Eras, api.Era{Format: "spare"})[:3]
 	source.Right(x)
 	source.Print(x)
-	if !same(x, tree()) || x.Rules[:4][3].Name != "spare" || x.Zones[0].Eras[:4][3].Format != "spare" {
+	if !sample.Same(x, tree()) || x.Rules[:4][3].Name != "spare" || x.Zones[0].Eras[:4][3].Format != "spare" {
 		t.Error(x)
 	}
 }
